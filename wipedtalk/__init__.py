@@ -1,0 +1,1 @@
+"""Talks that are broken when programs forget."""
