@@ -1,7 +1,6 @@
 """The document told once more, plainly and slowly: what the program is compared with."""
 
 import random
-from itertools import combinations
 
 from wipedtalk.programs import Pair, Receiver, Sender
 
@@ -99,6 +98,23 @@ def rest(pair, state):
     return values, endless, free
 
 
+def ways_to_give(deliveries, handings, kept):
+    """All ways to give deliveries to handings, as far as they matter.
+
+    Each way is a pair: the place of the last handing that got one (or -1), and whether each
+    handing ahead of it that is not excused got one. kept is the place of the first of these.
+    """
+    ways = {(-1, True)}
+    for place, value in deliveries:
+        further = set()
+        for last, fair in ways:
+            for at in range(last + 1, len(handings)):
+                if handings[at][0] < place and handings[at][1] == value:
+                    further.add((at, fair and all(left < kept for left in range(last + 1, at))))
+        ways = further
+    return ways
+
+
 def verdict(pair, run, excusing):
     """The verdict, by a look at every way to give deliveries to handings."""
     states, outcomes = states_of(pair, run)
@@ -107,18 +123,79 @@ def verdict(pair, run, excusing):
     deliveries += [(len(run), value) for value in later]
     handings = [(place, event[1]) for place, event in enumerate(run) if event[0] == "hand"]
     crashes = [place for place, event in enumerate(run) if event[0] == "crash" and event[1] in excusing]
-    last = max(crashes, default=-1)
-    if endless:
+    kept = sum(place < max(crashes, default=-1) for place, _ in handings)
+    ways = ways_to_give(deliveries, handings, kept)
+    if endless or not ways:
         return "wrong"
-    ways = []
-    for chosen in combinations(handings, len(deliveries)):
-        if all(given[0] < told[0] and given[1] == told[1] for given, told in zip(chosen, deliveries)):
-            ways.append(chosen)
-    if not ways:
-        return "wrong"
-    if not any(all(handing in chosen or handing[0] < last for handing in handings) for chosen in ways):
+    if not any(fair and max(kept - 1, last) == len(handings) - 1 for last, fair in ways):
         return "lost"
     return "good" if free else "stuck"
+
+
+BOTH = ("sender", "receiver")
+
+
+def is_settled(pair, run):
+    """Whether a run is settled."""
+    states, outcomes = states_of(pair, run)
+    handed = [event[1] for event in run if event[0] == "hand"]
+    at, _, forward, backward = states[-1]
+    delivered = [value for value in outcomes if value is not None]
+    return delivered == handed and forward == backward == () and pair.sender.takes[at] is not None
+
+
+def quiet_round(pair, state):
+    """A round, told step by step: the states behind send, hearing, answer and the end, the messages, the value."""
+    sent, _ = after(pair, state, ("send",))
+    heard, value = after(pair, sent, ("pass", "forward")) or (sent, None)
+    answered, _ = after(pair, heard, ("answer",))
+    end, _ = after(pair, answered, ("pass", "backward")) or (answered, None)
+    return {"sent": sent, "heard": heard, "answered": answered, "end": end, "value": value}
+
+
+def quiet(pair, state, count):
+    """So many rounds of the quiet talk behind a settled state; up to the first delivery, if count is None."""
+    state, _ = after(pair, state, ("hand", 0))
+    rounds = []
+    while True:
+        if len(rounds) == count or (count is None and rounds and rounds[-1]["value"] is not None):
+            return rounds
+        rounds.append(quiet_round(pair, state))
+        state = rounds[-1]["end"]
+
+
+def unheard(pair, state, rounds):
+    """Whether something is delivered in the rest that follows K."""
+    return rest(pair, (rounds[-1]["sent"][0], state[1], (), ()))[0] != []
+
+
+def writes(pair, run):
+    """The writes of a settled run, behind which the quiet talk is good."""
+    state = states_of(pair, run)[0][-1]
+    rounds = quiet(pair, state, None)
+    if unheard(pair, state, rounds):
+        crashed, _ = after(pair, rounds[-1]["heard"], ("crash", "receiver"))
+        return [] if crashed[1] == state[1] else [("receiver", len(rounds))]
+    found = []
+    for number in range(1, len(rounds)):
+        crashed, _ = after(pair, rounds[number - 1]["sent"], ("crash", "sender"))
+        if crashed[0] != state[0]:
+            found.append(("sender", number))
+        crashed, _ = after(pair, rounds[number - 1]["answered"], ("crash", "receiver"))
+        if crashed[1] != state[1]:
+            found.append(("receiver", number))
+    return found
+
+
+def least_broken(pair, most, excusing):
+    """The first broken run of at most so many events, the shortest ones first; or None."""
+    runs = [[]]
+    for _ in range(most + 1):
+        for run in runs:
+            if verdict(pair, run, excusing) != "good":
+                return run
+        runs = [run + [event] for run in runs for event in possible(pair, states_of(pair, run)[0][-1])]
+    return None
 
 
 def random_pair(chance, most_states=3):
@@ -159,6 +236,36 @@ def random_pair(chance, most_states=3):
     return Pair(told, heard)
 
 
+def changed_pair(chance, pair, changes):
+    """A pair that differs from this one in some items of its tables, often in what its programs keep."""
+    told, heard = pair.sender, pair.receiver
+    names = ("sends", "ticks", "hears", "crashes")
+    tables = [{name: list(getattr(program, name)) for name in names} for program in (told, heard)]
+    for _ in range(changes):
+        side = chance.randrange(2)
+        table = tables[side]
+        many = len(table["sends"])
+        at = chance.randrange(many)
+        kind = chance.choice(names)
+        if kind == "crashes":
+            table["crashes"] = chance.choice(
+                [[0] * many, list(range(many)), [chance.randrange(many) for _ in range(many)]]
+            )
+        elif kind == "sends":
+            table["sends"][at] = chance.choice([None, *range((told.forward, told.backward)[side])])
+        elif kind == "ticks":
+            table["ticks"][at] = chance.randrange(many)
+        else:
+            row = list(table["hears"][at])
+            row[chance.randrange(len(row))] = chance.randrange(many)
+            table["hears"][at] = tuple(row)
+    counts = (told.value_count, told.forward, told.backward)
+    return Pair(
+        Sender(*counts, takes=told.takes, **tables[0]),
+        Receiver(*counts, gives=heard.gives, **tables[1]),
+    )
+
+
 def random_run(chance, pair, length):
     """Some run of so many events, and with not too many handings."""
     run = []
@@ -178,6 +285,27 @@ def random_run(chance, pair, length):
         run.append(event)
         state = after(pair, state, event)[0]
     return run
+
+
+def rest_events(pair, state, rounds):
+    """The events of a rest, with so many rounds."""
+    events = [("pass", "forward")] * len(state[2]) + [("pass", "backward")] * len(state[3])
+    for event in events:
+        state, _ = after(pair, state, event)
+    for _ in range(rounds):
+        for event in [("send",), ("pass", "forward"), ("answer",), ("pass", "backward")]:
+            found = after(pair, state, event)
+            if found is not None:
+                state, _ = found
+                events.append(event)
+    return events
+
+
+def settled_runs(chance, pair, length):
+    """Runs that begin alike, are followed by a rest, and are settled; the empty one always."""
+    run = random_run(chance, pair, chance.randint(0, length))
+    run = run + rest_events(pair, states_of(pair, run)[0][-1], 8)
+    return [run[:end] for end in range(len(run) + 1) if is_settled(pair, run[:end])]
 
 
 def samples(count, seed, length=14):

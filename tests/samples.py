@@ -105,6 +105,42 @@ def telling_pair(values=3):
     )
 
 
+def slow_pair(silent=1):
+    """A pair that keeps nothing, and whose sender tells its value once, behind so many ticks at which it is silent."""
+    many = silent + 2
+    return Pair(
+        Sender(
+            1, 1, 1,
+            sends=[None] * (many - 1) + [0], ticks=[0, *range(2, many), 0], hears=[(state,) for state in range(many)],
+            takes=[(1,)] + [None] * (many - 1), crashes=[0] * many,
+        ),
+        Receiver(1, 1, 1, sends=[None], ticks=[0], hears=[(0,)], gives=[(0,)], crashes=[0]),
+    )
+
+
+def asking_pair(answers=3, kept=False):
+    """A pair whose sender asks until it has heard so many answers, and tells its value, once, in the next round.
+
+    Its receiver is in two states by turns; both programs keep nothing, or all.
+    """
+    many = answers + 2
+    return Pair(
+        Sender(
+            1, 2, 1,
+            sends=[None] + [0] * answers + [1],
+            ticks=list(range(many - 1)) + [0],
+            hears=[(0,)] + [(state + 1,) for state in range(1, many - 1)] + [(many - 1,)],
+            takes=[(1,)] + [None] * (many - 1),
+            crashes=list(range(many)) if kept else [0] * many,
+        ),
+        Receiver(
+            1, 2, 1,
+            sends=[0, 0], ticks=[1, 0], hears=[(0, 0), (1, 1)], gives=[(None, 0)] * 2,
+            crashes=[0, 1] if kept else [0, 0],
+        ),
+    )
+
+
 def mute_receiver(values=1, forward=1, backward=1):
     """A receiver of one state that does nothing."""
     return Receiver(

@@ -8,7 +8,8 @@ import unittest
 from pathlib import Path
 
 from tests import samples
-from wipedtalk import errors, programs, runs, verdicts
+from wipedtalk import errors, families, live, programs, replays, runs, searching, verdicts
+from wipedtalk.live import Live
 from wipedtalk.programs import Pair, Receiver, Sender
 
 ROOT = Path(__file__).resolve().parent.parent
@@ -23,6 +24,12 @@ LINES = {
     },
     runs: {"walked": "(pair, run)", "delivered": "(pair, run)", "possible": "(pair, run)"},
     verdicts: {"rest": "(pair, run)", "verdict": "(pair, run, *, excusing=('sender', 'receiver'))"},
+    replays: {
+        "breaking": "(pair, settled)", "recorded": "(pair, channel, rounds)", "one_crash": "(pair)",
+    },
+    families: {"enduring": "(room)", "turn": "(values)", "greeting": "(values)"},
+    searching: {"least_broken": "(pair, most, *, excusing=('sender', 'receiver'))"},
+    live: {"Live": "(pair)"},
     errors: {
         "InvalidNumber": "(thing)", "InvalidTable": "(name, row)", "InvalidProgram": "(thing)",
         "InvalidPair": "(thing)", "InvalidEvent": "(place)", "InvalidExcusing": "(thing)",
@@ -33,7 +40,15 @@ PROPERTIES = {
     Sender: ("value_count", "forward", "backward", "sends", "ticks", "hears", "takes", "crashes"),
     Receiver: ("value_count", "forward", "backward", "sends", "ticks", "hears", "gives", "crashes"),
     Pair: ("sender", "receiver"),
+    Live: ("pair", "run", "state", "delivered"),
 }
+METHODS = {
+    Sender: {"__eq__": "(self, other)"},
+    Receiver: {"__eq__": "(self, other)"},
+    Pair: {"__eq__": "(self, other)"},
+    Live: {"__len__": "(self)", "verdict": "(self)", "do": "(self, event)", "back": "(self)"},
+}
+MODULES = ("errors", "programs", "runs", "verdicts", "replays", "families", "searching", "live")
 
 
 def top_level(module):
@@ -59,7 +74,11 @@ class Interface(unittest.TestCase):
         for kind, names in PROPERTIES.items():
             for name in names:
                 self.assertIsInstance(vars(kind)[name], property)
-            self.assertIn("__eq__", vars(kind))
+
+    def test_each_method_is_defined_in_its_class(self):
+        for kind, lines in METHODS.items():
+            for name, line in lines.items():
+                self.assertEqual(str(inspect.signature(vars(kind)[name])), line)
 
     def test_the_package_itself_imports_nothing(self):
         tree = ast.parse((PACKAGE / "__init__.py").read_text())
@@ -69,7 +88,7 @@ class Interface(unittest.TestCase):
         self.assertEqual(told.stdout.strip(), "[]")
 
     def test_each_module_is_imported_alone(self):
-        for name in ("errors", "programs", "runs", "verdicts"):
+        for name in MODULES:
             subprocess.run([sys.executable, "-c", f"import wipedtalk.{name}"], cwd=ROOT, check=True)
 
     def test_numbers_that_are_told_are_integers(self):
@@ -80,6 +99,9 @@ class Interface(unittest.TestCase):
         self.assertTrue(all(type(event) is tuple for event in events))
         self.assertIs(type(programs.keeps_nothing(samples.echo(), "sender")), bool)
         self.assertIs(type(verdicts.verdict(samples.echo(), [])), str)
+        kind, writes = replays.breaking(families.turn(2), [])
+        self.assertEqual([type(kind), type(writes), type(writes[0])], [str, list, tuple])
+        self.assertIs(type(writes[0][1]), int)
 
 
 if __name__ == "__main__":

@@ -104,6 +104,21 @@ class Talk:
             self.receiver_state = self.receiver_tables.crashes[self.receiver_state]
 
 
+def moment_of(talk):
+    """The tuple that `walked` tells, of a talk as it is now."""
+    forward = tuple(talk.channels["forward"])
+    backward = tuple(talk.channels["backward"])
+    return talk.sender_state, talk.receiver_state, forward, backward
+
+
+def talk_at(pair, moment):
+    """A new talk that goes on from a moment."""
+    talk = Talk(pair)
+    talk.sender_state, talk.receiver_state, forward, backward = moment
+    talk.channels = {"forward": list(forward), "backward": list(backward)}
+    return talk
+
+
 def check_events(pair, run):
     """Raise InvalidEvent if a run is not a list of events, possible or not."""
     if not is_list(run):
@@ -129,9 +144,7 @@ def walk(pair, run):
 def walked(pair, run):
     """The sender's state, the receiver's state, the channel forward and the channel backward behind a run."""
     talk, _ = walk(pair, run)
-    forward = tuple(talk.channels["forward"])
-    backward = tuple(talk.channels["backward"])
-    return talk.sender_state, talk.receiver_state, forward, backward
+    return moment_of(talk)
 
 
 def delivered(pair, run):

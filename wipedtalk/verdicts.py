@@ -21,32 +21,38 @@ class Rest:
         self.gifts = []
         self.was_free = talk.is_free()
 
-    def lead(self, event):
-        """Let an event happen, and note what it delivers and whether the sender is free then."""
-        value = self.talk.step(event)
-        if value is not None:
-            self.gifts.append(value)
+    def note_freedom(self):
+        """Note whether the sender is free now; just its own events can change that."""
         if self.talk.is_free():
             self.was_free = True
 
-    def drain(self, channel):
-        """All messages in a channel pass."""
-        while len(self.talk.channels[channel]) > 0:
-            self.lead(("pass", channel))
+    def pass_all_forward(self):
+        """All messages in the channel forward pass."""
+        while len(self.talk.channels["forward"]) > 0:
+            value = self.talk.pass_forward()
+            if value is not None:
+                self.gifts.append(value)
+
+    def pass_all_backward(self):
+        """All messages in the channel backward pass."""
+        while len(self.talk.channels["backward"]) > 0:
+            self.talk.pass_backward()
+            self.note_freedom()
 
     def play_round(self):
         """One round; the channels, empty ahead of it, hold at most one message in it."""
-        self.lead(("send",))
-        self.drain("forward")
-        self.lead(("answer",))
-        self.drain("backward")
+        self.talk.send()
+        self.note_freedom()
+        self.pass_all_forward()
+        self.talk.answer()
+        self.pass_all_backward()
 
 
 def rest_of(talk):
     """Lead a talk to the end of its rest; the tuple that `rest` tells."""
     quiet = Rest(talk)
-    quiet.drain("forward")
-    quiet.drain("backward")
+    quiet.pass_all_forward()
+    quiet.pass_all_backward()
     gifts_ahead = {}
     states = (talk.sender_state, talk.receiver_state)
     while states not in gifts_ahead:
@@ -125,10 +131,8 @@ def can_give_all(gifts, handings, excused):
     return can_give(gifts[:split], handings[:excused])
 
 
-def verdict(pair, run, *, excusing=("sender", "receiver")):
-    """The verdict of a run: "wrong", "lost", "stuck" or "good"."""
-    talk, outcomes = walk(pair, run)
-    check_excusing(excusing)
+def judged(talk, run, outcomes, excusing):
+    """The verdict of a run, told the talk behind it (which is led to its end) and what each event delivered."""
     values, endless, free = rest_of(talk)
     handings = handed(run)
     gifts = placed_gifts(run, outcomes) + [(value, len(handings)) for value in values]
@@ -139,3 +143,10 @@ def verdict(pair, run, *, excusing=("sender", "receiver")):
     if not free:
         return "stuck"
     return "good"
+
+
+def verdict(pair, run, *, excusing=("sender", "receiver")):
+    """The verdict of a run: "wrong", "lost", "stuck" or "good"."""
+    talk, outcomes = walk(pair, run)
+    check_excusing(excusing)
+    return judged(talk, run, outcomes, excusing)
